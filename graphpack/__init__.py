@@ -1,0 +1,1 @@
+"""Graphpack: webs of parts, packed into bytes."""

@@ -1,0 +1,127 @@
+"""The package's own files keep to the small part of Python that is asked for, as far as a plain look can tell."""
+
+import ast
+import builtins
+import pathlib
+import re
+import unittest
+
+PACKAGE = pathlib.Path(__file__).resolve().parent.parent / "graphpack"
+
+NAMES = set("""len range enumerate zip min max sum abs sorted reversed int str bool list tuple dict set frozenset
+isinstance ord repr any all divmod Exception ValueError TypeError KeyError IndexError LookupError ZeroDivisionError
+ArithmeticError OverflowError RuntimeError NotImplementedError AttributeError StopIteration""".split())
+
+METHODS = set("""append clear copy count endswith extend find get index insert isalnum isalpha isdigit islower isspace
+isupper items join keys ljust lower lstrip partition pop remove replace reverse rfind rjust rpartition rsplit rstrip
+setdefault split splitlines startswith strip update upper values zfill bit_length""".split())
+
+WORDS = set("""type typing typing_extensions enum Enum IntEnum StrEnum Flag IntFlag Generic Protocol ABC ABCMeta
+namedtuple NamedTuple TypedDict TYPE_CHECKING abstractmethod""".split())
+
+UNUSED = set("register mro elements open input version_info with_traceback add_note format format_map".split())
+
+NODES = (
+    ast.Module, ast.FunctionDef, ast.ClassDef, ast.arguments, ast.arg, ast.ImportFrom, ast.alias, ast.Assign,
+    ast.AugAssign, ast.If, ast.While, ast.For, ast.Return, ast.Break, ast.Continue, ast.Pass, ast.Raise, ast.Try,
+    ast.ExceptHandler, ast.Expr, ast.Constant, ast.List, ast.Tuple, ast.Dict, ast.Set, ast.BinOp, ast.UnaryOp,
+    ast.BoolOp, ast.Compare, ast.IfExp, ast.Call, ast.keyword, ast.Attribute, ast.Subscript, ast.Slice, ast.ListComp,
+    ast.comprehension, ast.JoinedStr, ast.FormattedValue, ast.Lambda, ast.Name, ast.expr_context, ast.operator,
+    ast.unaryop, ast.boolop, ast.cmpop,
+)
+
+
+def sources():
+    return [(path, path.read_text("utf-8")) for path in sorted(PACKAGE.glob("*.py"))]
+
+
+def own_methods(trees):
+    found = set()
+    for tree in trees:
+        for node in ast.walk(tree):
+            if isinstance(node, ast.ClassDef):
+                found |= {item.name for item in node.body if isinstance(item, ast.FunctionDef)}
+    return found
+
+
+class LanguageTest(unittest.TestCase):
+    def test_the_folder_holds_plain_files_alone(self):
+        for path in PACKAGE.iterdir():
+            if path.name != "__pycache__":
+                self.assertRegex(path.name, r"^(__init__|[a-z][a-z0-9_]*)\.py$")
+        self.assertTrue((PACKAGE / "__init__.py").is_file())
+
+    def test_signs_lines_and_words(self):
+        for path, text in sources():
+            with self.subTest(path.name):
+                self.assertRegex(text, r"\A[ -~\n]*\Z")
+                lines = text.splitlines()
+                self.assertLessEqual(len(lines), 400)
+                self.assertLessEqual(max([len(line) for line in lines]), 120)
+                self.assertEqual(set(re.findall(r"\w+", text)) & WORDS, set())
+                self.assertIsNone(re.search("dataclass|overload|contextmanager", text))
+
+    def test_every_step_is_one_of_the_small_part(self):
+        for path, text in sources():
+            for node in ast.walk(ast.parse(text)):
+                with self.subTest(path=path.name, line=getattr(node, "lineno", 0)):
+                    self.assertIsInstance(node, NODES)
+                    self.check_node(node)
+
+    def check_node(self, node):
+        if isinstance(node, ast.FunctionDef):
+            self.assertLessEqual(node.end_lineno - node.lineno + 1, 40)
+            self.assertEqual((node.decorator_list, node.args.vararg, node.args.kwarg, node.args.kwonlyargs),
+                             ([], None, None, []))
+        if isinstance(node, ast.Assign):
+            self.assertEqual(len(node.targets), 1)
+            self.assertNotIsInstance(node.targets[0], (ast.Tuple, ast.List))
+        if isinstance(node, (ast.For, ast.While)):
+            self.assertEqual(node.orelse, [])
+        if isinstance(node, ast.comprehension):
+            self.assertLessEqual(len(node.ifs), 1)
+        if isinstance(node, ast.ListComp):
+            self.assertEqual(len(node.generators), 1)
+        if isinstance(node, ast.Constant):
+            self.assertNotIsInstance(node.value, (float, complex, bytes))
+            self.assertNotIn("%", node.value if isinstance(node.value, str) else "")
+        if isinstance(node, ast.FormattedValue):
+            self.assertIsInstance(node.value, ast.Name)
+            self.assertIsNone(node.format_spec)
+        if isinstance(node, ast.BinOp):
+            self.assertNotIsInstance(node.op, ast.Div)
+
+    def test_imports_are_the_packages_own_and_no_two_files_draw_from_one_another(self):
+        drawn = {}
+        for path, text in sources():
+            here = drawn.setdefault(path.stem, set())
+            for node in ast.walk(ast.parse(text)):
+                if isinstance(node, ast.ImportFrom):
+                    self.assertEqual(node.level, 0, path.name)
+                    self.assertRegex(node.module, r"^graphpack\.[a-z_]+$")
+                    here.update((node.module.split(".")[1], "__init__"))
+        for start in drawn:
+            reached, waiting = set(), list(drawn[start])
+            while waiting:
+                name = waiting.pop()
+                if name not in reached:
+                    reached.add(name)
+                    waiting.extend(drawn[name])
+            self.assertNotIn(start, reached)
+
+    def test_names_and_methods(self):
+        trees = {path.name: ast.parse(text) for path, text in sources()}
+        own = own_methods(trees.values())
+        for name, tree in trees.items():
+            for node in ast.walk(tree):
+                with self.subTest(path=name, line=getattr(node, "lineno", 0)):
+                    if isinstance(node, ast.Name):
+                        self.assertRegex(node.id, "^[A-Za-z][A-Za-z0-9_]*$")
+                        self.assertTrue(node.id in NAMES or not hasattr(builtins, node.id), node.id)
+                        self.assertFalse(isinstance(node.ctx, ast.Store) and hasattr(builtins, node.id), node.id)
+                    if isinstance(node, ast.arg):
+                        self.assertFalse(hasattr(builtins, node.arg), node.arg)
+                    if isinstance(node, ast.Attribute):
+                        self.assertNotIn(node.attr, UNUSED)
+                    if isinstance(node, ast.Call) and isinstance(node.func, ast.Attribute):
+                        self.assertIn(node.func.attr, METHODS | own)
