@@ -132,8 +132,13 @@ def links(part):
 
 
 def met(web, k=0):
+    return met_but(web, k, {})
+
+
+def met_but(web, k, left):
     order = []
-    seen = {}
+    # What is left out counts as met already: it is neither told nor gone into.
+    seen = dict(left)
     waiting = [k]
     while len(waiting) > 0:
         part = waiting.pop()

@@ -1,4 +1,6 @@
-"""Webs that several tests ask about, and a web maker that gives the same webs each time."""
+"""Webs and things that several tests ask about, and a web maker that gives the same webs each time."""
+
+from graphpack.webs import values, with_values
 
 EVERY_KIND = (
     ("record", "dog", (("a", -7), ("b", ("at", 1)), ("c9", None))),
@@ -21,6 +23,24 @@ def chain(count):
 def ring(count):
     """Each part holds the next one, the last one the first."""
     return tuple([("row", (("at", (k + 1) % count),)) for k in range(count)])
+
+
+class Hostile:
+    """Answers no question that is put to it."""
+
+    __hash__ = None
+
+    def __eq__(self, other):
+        raise RuntimeError("not to be compared")
+
+    def __len__(self):
+        raise RuntimeError("not to be measured")
+
+    def __iter__(self):
+        raise RuntimeError("not to be walked")
+
+    def __bool__(self):
+        raise RuntimeError("neither true nor false")
 
 
 class Maker:
@@ -66,9 +86,83 @@ class Maker:
         count = 1 + self.below(9)
         return tuple([self.part(count) for _ in range(count)])
 
+    def plain_value(self, count):
+        return self.chosen((None, 5) + tuple([("at", k) for k in range(count)]) * 3)
+
+    def plain_part(self, count):
+        sort = self.below(8)
+        if sort == 0:
+            return ("text", "a")
+        some = (self.plain_value(count), self.plain_value(count))
+        if sort == 1:
+            return ("table", (("a", some[0]),))
+        return ("row", some[:1] if sort == 2 else some)
+
+    def plain_web(self, most):
+        count = 1 + self.below(most)
+        # A root with two links, mostly to other parts, so that much of the web is met.
+        root = ("row", (("at", self.below(count)), ("at", count - 1)))
+        return (root,) + tuple([self.plain_part(count) for _ in range(count - 1)])
+
+    def changed(self, web):
+        """The web with one value of one part taken for another one, perhaps the same."""
+        k = self.below(len(web))
+        some = values(web[k])
+        if some:
+            some[self.below(len(some))] = self.plain_value(len(web))
+        return web[:k] + (with_values(web[k], some),) + web[k + 1:]
+
+    def shuffled(self, things):
+        left = list(things)
+        return [left.pop(self.below(len(left))) for _ in things]
+
 
 def made_webs(count):
     return [Maker(seed).web() for seed in range(count)]
+
+
+def plain_webs(count, most):
+    """Webs of up to so many parts that are few and alike enough for all their ways to be gone."""
+    return [Maker(seed).plain_web(most) for seed in range(count)]
+
+
+def led(part, numbers):
+    """The part with its links led to other numbers."""
+    return with_values(part, [("at", numbers[value[1]]) if isinstance(value, tuple) else value
+                              for value in values(part)])
+
+
+def renumbered(web, numbers):
+    """The web whose part numbers[k] is part k of the old one."""
+    out = [None] * len(web)
+    for k, part in enumerate(web):
+        out[numbers[k]] = led(part, numbers)
+    return tuple(out)
+
+
+def beside(one, other):
+    """Both webs as one, the other one behind."""
+    return one + tuple([led(part, range(len(one), len(one) + len(other))) for part in other])
+
+
+def laid_out(maker, web, times):
+    """The web so many times, each link led to what it led to in whichever laying: its root looks as before."""
+    parts = []
+    for _ in range(times):
+        for part in web:
+            parts.append(led(part, [k + len(web) * maker.below(times) for k in range(len(web))]))
+    return tuple(parts)
+
+
+def ways_from(web, k, longest):
+    """All ways of up to so many places that lead from a part, rising, each with the value that it leads to."""
+    level = [([], ("at", k))]
+    found = list(level)
+    for _ in range(longest):
+        level = [(way + [place], value) for way, link in level if isinstance(link, tuple)
+                 for place, value in enumerate(values(web[link[1]]))]
+        found.extend(level)
+    return found
 
 
 def names_web(count):

@@ -91,6 +91,27 @@ class LanguageTest(unittest.TestCase):
         if isinstance(node, ast.BinOp):
             self.assertNotIsInstance(node.op, ast.Div)
 
+    def test_no_parameter_and_no_local_is_called_like_an_import_or_a_class_of_its_file(self):
+        for path, text in sources():
+            tree = ast.parse(text)
+            taken = {node.name for node in tree.body if isinstance(node, ast.ClassDef)}
+            for node in tree.body:
+                if isinstance(node, ast.ImportFrom):
+                    taken |= {alias.name for alias in node.names}
+            for node in ast.walk(tree):
+                if isinstance(node, ast.arg):
+                    self.assertNotIn(node.arg, taken, path.name)
+                if isinstance(node, ast.Name) and isinstance(node.ctx, ast.Store):
+                    self.assertNotIn(node.id, taken, path.name)
+
+    def test_is_stands_beside_none_true_and_false_alone(self):
+        for path, text in sources():
+            for node in ast.walk(ast.parse(text)):
+                if isinstance(node, ast.Compare) and isinstance(node.ops[0], (ast.Is, ast.IsNot)):
+                    beside = node.comparators[0]
+                    self.assertIsInstance(beside, ast.Constant, path.name)
+                    self.assertIn(beside.value, (None, True, False), path.name)
+
     def test_imports_are_the_packages_own_and_no_two_files_draw_from_one_another(self):
         drawn = {}
         for path, text in sources():

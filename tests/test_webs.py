@@ -3,29 +3,11 @@ import string
 import unittest
 
 from graphpack.webs import drawn, head, is_name, is_part, is_value, is_web, is_word, met, values, with_values
-from tests.samples import EVERY_KIND, chain, classes_web, made_webs, names_web, ring
+from tests.samples import EVERY_KIND, Hostile, chain, classes_web, made_webs, names_web, ring
 
 NAME_SIGNS = string.ascii_lowercase + string.digits
 TWELVE = tuple([(name, 1) for name in "abcdefghijkl"])
 THIRTEEN = TWELVE + (("m", 1),)
-
-
-class Hostile:
-    """Answers no question that is put to it."""
-
-    __hash__ = None
-
-    def __eq__(self, other):
-        raise RuntimeError("not to be compared")
-
-    def __len__(self):
-        raise RuntimeError("not to be measured")
-
-    def __iter__(self):
-        raise RuntimeError("not to be walked")
-
-    def __bool__(self):
-        raise RuntimeError("neither true nor false")
 
 
 class Agreeing:
