@@ -1,5 +1,6 @@
 """What webs are made of, and what is met in them."""
 
+KINDS = ("text", "row", "table", "record")
 NAME_SIGNS = "0123456789abcdefghijklmnopqrstuvwxyz"
 WORD_SIGNS = " 0123456789abcdefghijklmnopqrstuvwxyz"
 MOST_NAME_SIGNS = 8

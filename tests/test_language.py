@@ -19,6 +19,11 @@ setdefault split splitlines startswith strip update upper values zfill bit_lengt
 WORDS = set("""type typing typing_extensions enum Enum IntEnum StrEnum Flag IntFlag Generic Protocol ABC ABCMeta
 namedtuple NamedTuple TypedDict TYPE_CHECKING abstractmethod""".split())
 
+# Names that values of objects may bear though Python's own values have them as methods.
+SHARED_VALUES = set("count index title find get join lower upper split strip copy add".split())
+
+PYTHON_VALUES = (str, int, list, tuple, dict, set, frozenset, bytes, bytearray)
+
 UNUSED = set("register mro elements open input version_info with_traceback add_note format format_map".split())
 
 NODES = (
@@ -35,13 +40,18 @@ def sources():
     return [(path, path.read_text("utf-8")) for path in sorted(PACKAGE.glob("*.py"))]
 
 
+def own_classes(trees):
+    return [node for tree in trees for node in ast.walk(tree) if isinstance(node, ast.ClassDef)]
+
+
 def own_methods(trees):
-    found = set()
-    for tree in trees:
-        for node in ast.walk(tree):
-            if isinstance(node, ast.ClassDef):
-                found |= {item.name for item in node.body if isinstance(item, ast.FunctionDef)}
-    return found
+    return {item.name for node in own_classes(trees) for item in node.body if isinstance(item, ast.FunctionDef)}
+
+
+def own_values(trees):
+    """The names under which objects keep something."""
+    return {node.attr for tree in trees for node in ast.walk(tree)
+            if isinstance(node, ast.Attribute) and isinstance(node.ctx, ast.Store)}
 
 
 class LanguageTest(unittest.TestCase):
@@ -129,6 +139,39 @@ class LanguageTest(unittest.TestCase):
                     reached.add(name)
                     waiting.extend(drawn[name])
             self.assertNotIn(start, reached)
+
+    def test_classes_hold_methods_alone_each_once(self):
+        for node in own_classes([ast.parse(text) for _, text in sources()]):
+            methods = [item.name for item in node.body if isinstance(item, ast.FunctionDef)]
+            self.assertEqual(len(set(methods)), len(methods), node.name)
+            self.assertTrue(all(isinstance(item, (ast.FunctionDef, ast.Pass)) for item in node.body), node.name)
+            self.assertLessEqual(len(node.bases), 1)
+            self.assertEqual((node.decorator_list, node.keywords), ([], []))
+
+    def test_methods_and_values_of_objects_are_called_unlike(self):
+        trees = [ast.parse(text) for _, text in sources()]
+        methods = own_methods(trees)
+        kept = own_values(trees)
+        self.assertEqual(methods & kept, set())
+        pythons = {name for kind in PYTHON_VALUES for name in dir(kind)}
+        self.assertEqual(kept & pythons - SHARED_VALUES, set())
+        self.assertEqual({name for name in methods & pythons if not name.startswith("__")} - METHODS - {"add", "discard"},
+                         set())
+
+    def test_what_stands_at_a_files_top_is_plain(self):
+        for path, text in sources():
+            bound = []
+            for node in ast.parse(text).body:
+                if isinstance(node, (ast.FunctionDef, ast.ClassDef)):
+                    bound.append(node.name)
+                elif isinstance(node, ast.Assign):
+                    bound.append(node.targets[0].id)
+                    ast.literal_eval(node.value)
+                elif isinstance(node, ast.ImportFrom):
+                    bound.extend([alias.asname or alias.name for alias in node.names])
+                else:
+                    self.assertIsInstance(ast.literal_eval(node.value), str, path.name)
+            self.assertEqual(len(set(bound)), len(bound), path.name)
 
     def test_names_and_methods(self):
         trees = {path.name: ast.parse(text) for path, text in sources()}
